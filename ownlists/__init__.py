@@ -1,0 +1,1 @@
+"""Ownlists: money that each payer lays by a list of their own."""

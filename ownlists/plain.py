@@ -1,0 +1,77 @@
+"""What several files need: which kind of value a thing is, and values without lists."""
+
+LONGEST_NAME = 8
+
+
+def is_number(thing):
+    """Whether thing is a number: an int that is no bool."""
+    return isinstance(thing, int) and not isinstance(thing, bool)
+
+
+def is_amount(thing):
+    """Whether thing is a number from 0."""
+    return is_number(thing) and thing >= 0
+
+
+def is_name(thing):
+    """Whether thing is a NAME."""
+    if not isinstance(thing, str) or not 1 <= len(thing) <= LONGEST_NAME:
+        return False
+    # Not isalpha and islower: these hold for letters beyond z, too.
+    return all(["a" <= letter <= "z" for letter in thing])
+
+
+def is_pair(thing):
+    """Whether thing is a tuple of two."""
+    return isinstance(thing, tuple) and len(thing) == 2
+
+
+def is_names(thing):
+    """Whether thing is a tuple of NAMEs, maybe alike ones."""
+    return isinstance(thing, tuple) and all([is_name(part) for part in thing])
+
+
+def is_list(thing):
+    """Whether thing is a LIST of any NAMEs."""
+    return is_names(thing) and len(set(thing)) == len(thing)
+
+
+def is_ascending(names):
+    """Whether each of the NAMEs, in a tuple or a list, is less than the next one."""
+    return all([one < other for one, other in zip(names, names[1:])])
+
+
+def is_name_set(thing):
+    """Whether thing is a set of NAMEs."""
+    return is_names(thing) and is_ascending(thing)
+
+
+def is_amounts(thing):
+    """Whether thing is a tuple of pairs of a NAME and a number from 0, in any order."""
+    if not isinstance(thing, tuple):
+        return False
+    return all([is_pair(part) and is_name(part[0]) and is_amount(part[1]) for part in thing])
+
+
+def frozen(value):
+    """The same value with tuples for lists, at any depth."""
+    if isinstance(value, (list, tuple)):
+        return tuple([frozen(part) for part in value])
+    return value
+
+
+def first_not_in(names, known):
+    """The first of the NAMEs that is not among the known ones; None if all are."""
+    for name in names:
+        if name not in known:
+            return name
+    return None
+
+
+def least_double(names):
+    """The least of the NAMEs that stands there more than once; None if there is none."""
+    ascending = sorted(names)
+    for one, other in zip(ascending, ascending[1:]):
+        if one == other:
+            return one
+    return None

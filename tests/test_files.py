@@ -1,0 +1,117 @@
+"""The interface as the document lists it, and what can be seen of the rules for the files of the package."""
+
+import ast
+import importlib
+import inspect
+import pathlib
+import unittest
+
+FOLDER = pathlib.Path(__file__).resolve().parent.parent / "ownlists"
+INTERFACE = {
+    "books": {
+        "is_book": ["thing"], "bills": ["book"], "payers": ["book"], "list_of": ["book", "payer"],
+        "payers_with": ["book", "bill"], "ahead": ["book", "payer", "bill"], "behind": ["book", "payer", "bill"],
+        "with_payer": ["book", "payer", "row"], "without_payer": ["book", "payer"],
+        "with_list": ["book", "payer", "row"], "with_bill": ["book", "bill"], "struck": ["book", "bill"],
+        "parted": ["book", "bill", "name"], "renamed": ["book", "pairs"], "renamed_payers": ["book", "pairs"],
+    },
+    "laid": {
+        "is_dues": ["book", "thing"], "is_payments": ["book", "thing"], "is_order": ["payments", "thing"],
+        "first_open": ["book", "dues", "payer"], "paid": ["book", "dues", "payer", "amount"],
+        "laid": ["book", "dues", "payer", "amount"], "along": ["book", "dues", "payments", "order"],
+        "end_of": ["book", "dues", "payments", "order"], "ends": ["book", "dues", "payments"],
+        "paid_by": ["book", "dues", "payments", "order"], "given_back": ["book", "dues", "payments", "order"],
+        "sum_back": ["book", "dues", "payments", "order"],
+    },
+}
+BARRED_WORDS = {"type", "typing", "enum", "dataclass", "namedtuple", "register", "open", "input", "law", "elements"}
+
+
+def trees():
+    """The pairs (path, tree) of all files of the package."""
+    return [(path, ast.parse(path.read_text("utf-8"))) for path in sorted(FOLDER.glob("*.py"))]
+
+
+def names_in(tree):
+    """All names that a file gives or uses."""
+    for node in ast.walk(tree):
+        for field in ("id", "name", "attr", "arg"):
+            name = getattr(node, field, None)
+            if isinstance(name, str):
+                yield name
+
+
+class Interface(unittest.TestCase):
+
+    def test_functions_stand_in_their_files_with_their_arguments(self):
+        for file, functions in INTERFACE.items():
+            module = importlib.import_module("ownlists." + file)
+            for name, arguments in functions.items():
+                with self.subTest(file=file, name=name):
+                    function = getattr(module, name)
+                    self.assertEqual((function.__module__, function.__name__), (module.__name__, name))
+                    self.assertEqual(list(inspect.signature(function).parameters), arguments)
+
+
+class Rules(unittest.TestCase):
+
+    def test_the_folder_holds_files_alone(self):
+        strange = [path.name for path in FOLDER.iterdir() if path.suffix != ".py" and path.name != "__pycache__"]
+        self.assertEqual(strange, [])
+        self.assertTrue((FOLDER / "__init__.py").is_file())
+
+    def test_characters_and_sizes(self):
+        for path, tree in trees():
+            text = path.read_text("utf-8")
+            lines = text.split("\n")
+            with self.subTest(path.name):
+                self.assertEqual([letter for letter in text if not (" " <= letter <= "~" or letter == "\n")], [])
+                self.assertLessEqual(len(lines), 399)
+                self.assertLessEqual(max(len(line) for line in lines), 120)
+                for node in ast.walk(tree):
+                    if isinstance(node, ast.FunctionDef):
+                        self.assertLessEqual(node.end_lineno - node.lineno + 1, 40, node.name)
+
+    def test_imports_come_from_the_package_and_from_the_file_that_defines(self):
+        for path, tree in trees():
+            for node in ast.walk(tree):
+                self.assertNotIsInstance(node, ast.Import, path.name)
+                if isinstance(node, ast.ImportFrom):
+                    self.assertEqual((node.level, node.module.split(".")[0]), (0, "ownlists"))
+                    module = importlib.import_module(node.module)
+                    for alias in node.names:
+                        self.assertEqual(getattr(module, alias.name).__module__, node.module)
+
+    def test_names(self):
+        builtin_names = set(dir(importlib.import_module("builtins")))
+        for path, tree in trees():
+            bound = {node.id for node in ast.walk(tree) if isinstance(node, ast.Name) and isinstance(node.ctx, ast.Store)}
+            bound |= {node.name for node in ast.walk(tree) if isinstance(node, (ast.FunctionDef, ast.ClassDef))}
+            bound |= {node.arg for node in ast.walk(tree) if isinstance(node, ast.arg)}
+            with self.subTest(path.name):
+                self.assertEqual(bound & builtin_names, set())
+                self.assertEqual(set(names_in(tree)) & BARRED_WORDS, set())
+
+    def test_no_local_name_is_that_of_an_import(self):
+        for path, tree in trees():
+            imported = {alias.name for node in tree.body if isinstance(node, ast.ImportFrom) for alias in node.names}
+            inside = [node for top in tree.body if isinstance(top, ast.FunctionDef) for node in ast.walk(top)]
+            local = {node.id for node in inside if isinstance(node, ast.Name) and isinstance(node.ctx, ast.Store)}
+            local |= {node.arg for node in inside if isinstance(node, ast.arg)}
+            with self.subTest(path.name):
+                self.assertEqual(imported & local, set())
+
+    def test_kinds_of_code(self):
+        barred = (ast.Global, ast.AsyncFunctionDef, ast.Await, ast.Div)
+        for path, tree in trees():
+            for node in ast.walk(tree):
+                self.assertNotIsInstance(node, barred, path.name)
+                if isinstance(node, ast.Constant):
+                    self.assertNotIsInstance(node.value, float)
+                    self.assertFalse(isinstance(node.value, str) and "%" in node.value, path.name)
+            for node in tree.body:
+                self.assertEqual(getattr(node, "decorator_list", []), [], path.name)
+
+
+if __name__ == "__main__":
+    unittest.main()

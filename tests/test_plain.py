@@ -1,0 +1,63 @@
+"""What several files need: kinds of values, and values without lists."""
+
+import unittest
+
+from helping import check_same
+from ownlists import plain
+
+
+class Plain(unittest.TestCase):
+
+    def test_numbers(self):
+        for thing in (0, 1, -1, 10 ** 40, -10 ** 40):
+            self.assertIs(plain.is_number(thing), True)
+            self.assertIs(plain.is_amount(thing), thing >= 0)
+        for thing in (True, False, None, "1", "", (), (1,), [1]):
+            self.assertIs(plain.is_number(thing), False)
+            self.assertIs(plain.is_amount(thing), False)
+
+    def test_names(self):
+        for thing in ("a", "z", "rent", "abcdefgh", "zzzzzzzz"):
+            self.assertIs(plain.is_name(thing), True)
+        for thing in ("", "abcdefghi", "A", "renT", "a b", " a", "a ", "a1", "-", "`", "{", "\u00e9", "\u00aa", "a\n"):
+            self.assertIs(plain.is_name(thing), False)
+        for thing in (0, True, None, (), ("a",), ["a"], b"a"):
+            self.assertIs(plain.is_name(thing), False)
+
+    def test_rows_of_names(self):
+        for thing, names, row, ascending in (
+                ((), True, True, True), (("a",), True, True, True), (("a", "b"), True, True, True),
+                (("b", "a"), True, True, False), (("a", "a"), True, False, False), (("b", "a", "b"), True, False, False),
+                (["a"], False, False, False), (("a", 1), False, False, False), (("a", ["b"]), False, False, False),
+                ("ab", False, False, False), (None, False, False, False)):
+            self.assertIs(plain.is_names(thing), names)
+            self.assertIs(plain.is_list(thing), row)
+            self.assertIs(plain.is_name_set(thing), ascending)
+
+    def test_pairs(self):
+        for thing in ((1, 2), ((), ())):
+            self.assertIs(plain.is_pair(thing), True)
+        for thing in ([1, 2], (1,), (1, 2, 3), (), "ab", None):
+            self.assertIs(plain.is_pair(thing), False)
+        for thing in ((), (("a", 0),), (("b", 1), ("a", 2), ("a", 10 ** 50))):
+            self.assertIs(plain.is_amounts(thing), True)
+        for thing in ([], (("a", -1),), (("a", True),), (["a", 1],), (("a", 1, 1),), (("A", 1),), (("a",),), ("ab",)):
+            self.assertIs(plain.is_amounts(thing), False)
+
+    def test_tuples_for_lists(self):
+        for value in (1, True, None, "ab", (), (1, ("a", ()))):
+            check_same(self, plain.frozen(value), value)
+        given = [1, ["a", ([None],)]]
+        check_same(self, plain.frozen(given), (1, ("a", ((None,),))))
+        check_same(self, given, [1, ["a", ([None],)]])
+
+    def test_the_first_and_the_least(self):
+        self.assertEqual(plain.first_not_in(("b", "d", "c"), ("a", "b")), "d")
+        self.assertIsNone(plain.first_not_in(("b", "a"), ("a", "b")))
+        self.assertIsNone(plain.first_not_in((), ()))
+        self.assertEqual(plain.least_double(("c", "b", "c", "a", "b")), "b")
+        self.assertIsNone(plain.least_double(("c", "a", "b")))
+
+
+if __name__ == "__main__":
+    unittest.main()

@@ -1,0 +1,179 @@
+"""is_book, is_dues, is_payments, is_order: True for exactly the values described."""
+
+import itertools
+import unittest
+
+from helping import check_call
+from ownlists import errors
+from ownlists.books import is_book
+from ownlists.laid import is_dues, is_order, is_payments
+
+BOOK = (("food", "gas", "rent"), (("ann", ("rent", "gas")), ("bob", ("gas", "food", "rent")), ("cid", ())))
+DUES = (("food", 2), ("gas", 0), ("rent", 10 ** 40))
+PAYMENTS = (("ann", 5), ("bob", 0), ("ann", 5), ("cid", 10 ** 40))
+GREAT = 10 ** 60
+
+
+def deep(inner, depth, kind=tuple):
+    """inner within so many tuples or lists."""
+    for turn in range(depth):
+        inner = kind((inner,))
+    return inner
+
+
+# None of these is a BOOK, DUES or PAYMENTS; () and (0,) and the like are asked separately.
+OTHERS = (
+    0, 1, -1, GREAT, True, False, None, "", "a", "ab", "food", "A", errors.NoBill("a"), errors.BadText(), [], [()],
+    [[], []], [(), ()], ([], []), ([], ()), ((), []), ((), (), ()), ((),), (None, None), (True, False), ("a", "b"),
+    ("a", 1), (("a",), None), (("a",), "b"), ("a", ()), ((), "a"), ((1,), ()), ((), (1,)), ((), ("a",)), ((), ((),)),
+    (("food", 1),), (("food", 1), ("gas", 1), ("rent", 1), ("tax", 1)), (errors.NoBill("a"), ()), {}, b"ab",
+    deep((), 12), deep((), 12, list), deep("a", 11), deep(1, 12),
+)
+
+
+def with_one_changed(value, changes):
+    """The values that differ from this one at one place, at any depth; changes(part) tells by what."""
+    for part in changes(value):
+        yield part
+    if isinstance(value, tuple):
+        for at, inner in enumerate(value):
+            for part in with_one_changed(inner, changes):
+                yield value[:at] + (part,) + value[at + 1:]
+
+
+def kinds_changed(part):
+    """Things of other kinds in the place of this part."""
+    found = [None, True, False, "", "A", "a b", "abcdefghi", "a1", -1, [], {}, errors.NoBill("a"), deep((), 3)]
+    if isinstance(part, tuple):
+        found += [list(part), 0, "a", part + (None,), part + ((),)]
+    elif isinstance(part, str):
+        found += [0, (), (part,), [part], part.upper(), part + "A", part + " ", part + "aaaaaaaaa"]
+    else:
+        found += ["a", (), (part,), [part], -1 - part, str(part)]
+    return found
+
+
+class Things(unittest.TestCase):
+
+    def check_false(self, function, *asked):
+        self.assertIs(function(*asked), False, asked)
+
+    def check_kinds_changed(self, function, *asked, thing):
+        self.assertIs(function(*asked, thing), True)
+        for changed in with_one_changed(thing, kinds_changed):
+            self.check_false(function, *asked, changed)
+
+    def test_other_things(self):
+        for thing in OTHERS:
+            self.check_false(is_book, thing)
+            self.check_false(is_dues, BOOK, thing)
+            self.check_false(is_dues, ((), ()), thing)
+            self.check_false(is_payments, BOOK, thing)
+            self.check_false(is_payments, ((), ()), thing)
+            self.check_false(is_order, PAYMENTS, thing)
+            self.check_false(is_order, (), thing)
+
+    def test_one_part_changed(self):
+        self.check_kinds_changed(is_book, thing=BOOK)
+        self.check_kinds_changed(is_dues, BOOK, thing=DUES)
+        self.check_kinds_changed(is_payments, BOOK, thing=PAYMENTS)
+        self.check_kinds_changed(is_order, PAYMENTS, thing=(2, 0, 3, 1))
+
+
+class IsBook(unittest.TestCase):
+
+    def test_books(self):
+        many = tuple(sorted("".join(letters) for letters in itertools.product("abcdefghij", repeat=3)))
+        for thing in (
+                ((), ()), BOOK, (("a",), ()), ((), (("a", ()),)), (("a", "b"), (("a", ("b", "a")), ("b", ("a",)))),
+                (("a", "abcdefgh", "z"), (("zzzzzzzz", ("abcdefgh",)),)), (many, ()), (many, (("a", many[::-1]),)),
+                (many, tuple((name, (name,)) for name in many)), ((), tuple((name, ()) for name in many))):
+            check_call(self, is_book, True, thing=thing)
+
+    def test_no_books(self):
+        for thing in (
+                (("b", "a"), ()), (("a", "a"), ()), (("a",), (("p", ("a", "a")),)), (("a",), (("p", ("b",)),)),
+                (("a",), (("p", ("a", "b")),)), ((), (("q", ()), ("p", ()))), ((), (("p", ()), ("p", ()))),
+                (("a",), (("p", ()), ("p", ("a",)))), (("a",), (("p", ("a",)), ("o", ()))), (("a",), (("p",),)),
+                (("a",), (("p", ("a",), ()),)), (("a",), (("p", "a"),)), (("a",), ("p", ("a",))),
+                (("a",), (), ()), (("a",),), (("gas", "Rent"), ()), (("a",), (("p q", ()),))):
+            check_call(self, is_book, False, thing=thing)
+
+    def test_all_small_things(self):
+        names = ("a", "b", "c")
+        rows = [row for many in range(3) for row in itertools.product(names[:2], repeat=many)]
+        sets = [row for many in range(3) for row in itertools.product(names, repeat=many)]
+        owned = list(itertools.product(("a", "q"), rows))
+        for bills, pairs in itertools.product(sets, [row for many in range(3)
+                                                     for row in itertools.product(owned, repeat=many)]):
+            owners = [owner for owner, row in pairs]
+            good = list(bills) == sorted(set(bills)) and owners == sorted(set(owners))
+            good = good and all(len(set(row)) == len(row) and set(row) <= set(bills) for owner, row in pairs)
+            self.assertIs(is_book((bills, pairs)), good)
+
+
+class IsDues(unittest.TestCase):
+
+    def test_dues(self):
+        check_call(self, is_dues, True, book=BOOK, thing=DUES)
+        check_call(self, is_dues, True, book=BOOK, thing=(("food", 0), ("gas", 0), ("rent", 0)))
+        check_call(self, is_dues, True, book=BOOK, thing=(("food", GREAT), ("gas", 1), ("rent", 0)))
+        check_call(self, is_dues, True, book=((), ()), thing=())
+        check_call(self, is_dues, True, book=((), (("a", ()),)), thing=())
+        check_call(self, is_dues, True, book=(("a", "abcdefgh"), ()), thing=(("a", 1), ("abcdefgh", 0)))
+
+    def test_no_dues(self):
+        for thing in (
+                (), DUES[:2], DUES[1:], DUES[::-1], DUES + (("tax", 1),), (("ann", 1),) + DUES, DUES + DUES[2:],
+                (("food", 2), ("gas", -1), ("rent", 4)), (("food", 2), ("gas", True), ("rent", 4)),
+                (("food", 2), ("gas", False), ("rent", 4)), (("food", 2), ("gas", "3"), ("rent", 4)),
+                (("food", 2), ["gas", 3], ("rent", 4)), list(DUES), (("food", 2), ("tax", 3), ("rent", 4)),
+                (("food", 2), ("gas", 3, 3), ("rent", 4)), (("food", 2), ("gas",), ("rent", 4)), ("food", "gas", "rent")):
+            check_call(self, is_dues, False, book=BOOK, thing=thing)
+        check_call(self, is_dues, False, book=((), ()), thing=[])
+        check_call(self, is_dues, False, book=((), (("a", ()),)), thing=(("a", 0),))
+
+
+class IsPayments(unittest.TestCase):
+
+    def test_payments(self):
+        for thing in ((), PAYMENTS, (("bob", GREAT),), (("cid", 0),) * 50, tuple(("ann", at) for at in range(2000))):
+            check_call(self, is_payments, True, book=BOOK, thing=thing)
+        check_call(self, is_payments, True, book=((), ()), thing=())
+        check_call(self, is_payments, True, book=((), (("a", ()), ("abcdefgh", ()))), thing=(("abcdefgh", 1), ("a", 2)))
+
+    def test_no_payments(self):
+        for thing in (
+                [], list(PAYMENTS), (["ann", 1],), (("dan", 1),), (("ann", 1), ("gas", 1)), (("ann", -1),),
+                (("ann", True),), (("ann", False),), (("ann", None),), (("ann", "1"),), (("ann",),), (("ann", 1, 1),),
+                ("ann", 1), (("Ann", 1),), ((1, "ann"),), ((["ann"], 1),), ((("ann",), 1),), ((None, 1),)):
+            check_call(self, is_payments, False, book=BOOK, thing=thing)
+        check_call(self, is_payments, False, book=((), ()), thing=(("a", 0),))
+        check_call(self, is_payments, False, book=(("a",), ()), thing=(("a", 0),))
+
+
+class IsOrder(unittest.TestCase):
+
+    def test_orders(self):
+        for many in range(5):
+            payments = PAYMENTS[:many]
+            for thing in itertools.product(range(-1, many + 1), repeat=many):
+                check_call(self, is_order, sorted(thing) == list(range(many)), payments=payments, thing=thing)
+        many = tuple(reversed(range(500)))
+        check_call(self, is_order, True, payments=(("ann", 1),) * 500, thing=many)
+
+    def test_no_orders(self):
+        for thing in (
+                [1, 0], (0,), (1,), (0, 1, 2), (), (True, False), (False, True), (0, True), (1, False), ("0", "1"),
+                (0, "1"), (None, 1), (0, (1,)), ((0, 1),), ((0,), (1,)), (0, [1]), 1, "01", None, True, (0, 0), (1, 2)):
+            check_call(self, is_order, False, payments=PAYMENTS[:2], thing=thing)
+        for thing in (0, False, None, [], "", (0,), ((),), (None,)):
+            check_call(self, is_order, False, payments=(), thing=thing)
+        check_call(self, is_order, True, payments=(), thing=())
+        check_call(self, is_order, True, payments=(("ann", 5),), thing=(0,))
+        for thing in ((False,), ([0],), [0], 0, (1,), (-1,)):
+            check_call(self, is_order, False, payments=(("ann", 5),), thing=thing)
+
+
+if __name__ == "__main__":
+    unittest.main()
