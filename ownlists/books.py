@@ -1,7 +1,8 @@
 """Books of lists: which bills there are, and which payer has which of them in which order."""
 
-from ownlists.errors import NoBill, NoPayer, Twice
-from ownlists.plain import first_not_in, is_ascending, is_list, is_name, is_name_set, is_pair, least_double
+from ownlists.errors import NoPayer
+from ownlists.plain import is_ascending, is_list, is_name, is_name_set, is_pair
+from ownlists.plain import want_bills, want_new, want_payers, want_unlike
 
 
 def is_book(thing):
@@ -39,7 +40,7 @@ def list_of(book, payer):
 
 def payers_with(book, bill):
     """The set of the payers whose LIST has this bill."""
-    _want_bills(book, [bill])
+    want_bills([bill], bills(book))
     return tuple([payer for payer, row in book[1] if bill in row])
 
 
@@ -61,60 +62,59 @@ def behind(book, payer, bill):
 
 def with_payer(book, payer, row):
     """The BOOK with this payer more, who has this LIST."""
-    if payer in payers(book):
-        raise Twice(payer)
-    _want_bills(book, row)
+    want_new([payer], payers(book))
+    want_bills(row, bills(book))
     return _book_of(bills(book), _rows(book) + [(payer, tuple(row))])
 
 
 def without_payer(book, payer):
     """The BOOK without this payer."""
-    _want_payers(book, [payer])
+    want_payers([payer], payers(book))
     return _book_of(bills(book), [(name, row) for name, row in _rows(book) if name != payer])
 
 
 def with_list(book, payer, row):
     """The BOOK in which this payer has this LIST."""
-    _want_payers(book, [payer])
-    _want_bills(book, row)
+    want_payers([payer], payers(book))
+    want_bills(row, bills(book))
     others = [(name, old) for name, old in _rows(book) if name != payer]
     return _book_of(bills(book), others + [(payer, tuple(row))])
 
 
 def with_bill(book, bill):
     """The BOOK with this bill more, in no LIST."""
-    _want_new_bill(book, bill)
+    want_new([bill], bills(book))
     return _book_of(bills(book) + (bill,), _rows(book))
 
 
 def struck(book, bill):
     """The BOOK without this bill, also in all LISTS."""
-    _want_bills(book, [bill])
+    want_bills([bill], bills(book))
     rows = [(payer, _without(row, bill)) for payer, row in _rows(book)]
     return _book_of(_without(bills(book), bill), rows)
 
 
 def parted(book, bill, name):
     """The BOOK with the bill name more, just behind bill in each LIST that has bill."""
-    _want_bills(book, [bill])
-    _want_new_bill(book, name)
+    want_bills([bill], bills(book))
+    want_new([name], bills(book))
     rows = [(payer, _with_behind(row, bill, name)) for payer, row in _rows(book)]
     return _book_of(bills(book) + (name,), rows)
 
 
 def renamed(book, pairs):
     """The BOOK with the second NAME of each pair for the bill that is the first one, all at once."""
-    _want_bills(book, [old for old, new in pairs])
+    want_bills([old for old, new in pairs], bills(book))
     names = _exchanged(bills(book), pairs)
-    _want_unlike(names)
+    want_unlike(names)
     return _book_of(names, [(payer, _exchanged(row, pairs)) for payer, row in _rows(book)])
 
 
 def renamed_payers(book, pairs):
     """The BOOK with the second NAME of each pair for the payer that is the first one, all at once."""
-    _want_payers(book, [old for old, new in pairs])
+    want_payers([old for old, new in pairs], payers(book))
     names = _exchanged(payers(book), pairs)
-    _want_unlike(names)
+    want_unlike(names)
     return _book_of(bills(book), [(name, row) for name, (payer, row) in zip(names, _rows(book))])
 
 
@@ -131,7 +131,7 @@ def _book_of(names, rows):
 def _place_in(book, payer, bill):
     """The LIST of this payer, and the place of the bill in it; None for the place if it is not there."""
     row = list_of(book, payer)
-    _want_bills(book, [bill])
+    want_bills([bill], bills(book))
     if bill not in row:
         return row, None
     return row, row.index(bill)
@@ -154,30 +154,3 @@ def _exchanged(names, pairs):
     """The NAMEs, each that is the first one of a pair being exchanged for the second one."""
     after = {old: new for old, new in pairs}
     return tuple([after.get(name, name) for name in names])
-
-
-def _want_payers(book, names):
-    """Raise NoPayer for the first NAME that is no payer."""
-    name = first_not_in(names, payers(book))
-    if name is not None:
-        raise NoPayer(name)
-
-
-def _want_bills(book, names):
-    """Raise NoBill for the first NAME that is no bill."""
-    name = first_not_in(names, bills(book))
-    if name is not None:
-        raise NoBill(name)
-
-
-def _want_new_bill(book, name):
-    """Raise Twice if this NAME is a bill already."""
-    if name in bills(book):
-        raise Twice(name)
-
-
-def _want_unlike(names):
-    """Raise Twice for the least NAME that stands there more than once."""
-    name = least_double(names)
-    if name is not None:
-        raise Twice(name)

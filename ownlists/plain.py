@@ -1,4 +1,6 @@
-"""What several files need: which kind of value a thing is, and values without lists."""
+"""What several files need: which kind of value a thing is, values without lists, NAMEs that must be known."""
+
+from ownlists.errors import NoBill, NoPayer, Twice
 
 LONGEST_NAME = 8
 
@@ -75,3 +77,48 @@ def least_double(names):
         if one == other:
             return one
     return None
+
+
+def want_payers(names, known):
+    """Raise NoPayer for the first of the NAMEs that is none of the known payers."""
+    name = first_not_in(names, known)
+    if name is not None:
+        raise NoPayer(name)
+
+
+def want_bills(names, known):
+    """Raise NoBill for the first of the NAMEs that is none of the known bills."""
+    name = first_not_in(names, known)
+    if name is not None:
+        raise NoBill(name)
+
+
+def want_new(names, known):
+    """Raise Twice for the first of the NAMEs that is known already."""
+    for name in names:
+        if name in known:
+            raise Twice(name)
+
+
+def want_unlike(names):
+    """Raise Twice for the least of the NAMEs that stands there more than once."""
+    name = least_double(names)
+    if name is not None:
+        raise Twice(name)
+
+
+def all_sets(names):
+    """The ascending list of the sets of some of these NAMEs, an ascending tuple."""
+    found = [()]
+    for place, name in enumerate(names):
+        found.extend([(name,) + some for some in all_sets(names[place + 1:])])
+    return found
+
+
+def all_lists(names):
+    """The ascending list of the LISTS of some of these NAMEs, an ascending tuple."""
+    found = [()]
+    for name in names:
+        others = tuple([other for other in names if other != name])
+        found.extend([(name,) + row for row in all_lists(others)])
+    return found

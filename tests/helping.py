@@ -1,6 +1,7 @@
-"""What several tests need: calls made in all the ways that callers may make them, and examples of the document."""
+"""What several tests need: calls in all the ways that callers may make them, examples, and slow second ways."""
 
 import copy
+import itertools
 
 
 def listed(value):
@@ -111,3 +112,64 @@ def check_examples(case, text, names):
             expected = "" if below.startswith(">>> ") else below
             with case.subTest(line):
                 case.assertEqual(answer_to(line[4:], names), expected)
+
+
+def coins(book, dues, payments, order):
+    """Coin by coin: what is due behind all, the OPENS on the way, who paid what, what goes back."""
+    rows, due = dict(book[1]), dict(dues)
+    moments, paid_sums, back = [], {}, [0] * len(payments)
+    for place in order:
+        payer, amount = payments[place]
+        for coin in range(amount):
+            still = [bill for bill in rows[payer] if due[bill] > 0]
+            if still:
+                due[still[0]] -= 1
+                paid_sums[payer, still[0]] = paid_sums.get((payer, still[0]), 0) + 1
+            else:
+                back[place] += 1
+        moments.append(tuple(sorted(due.items())))
+    triples = tuple(sorted((*key, number) for key, number in paid_sums.items()))
+    return tuple(sorted(due.items())), moments, triples, tuple(back)
+
+
+def ends_by_coins(book, dues, payments):
+    """The set of what is due behind all, by all ORDERs."""
+    return {coins(book, dues, payments, order)[0] for order in itertools.permutations(range(len(payments)))}
+
+
+def rows_of(names):
+    """All LISTS of some of these NAMEs."""
+    return [row for many in range(len(names) + 1) for row in itertools.permutations(names, many)]
+
+
+def sets_of(names):
+    """All sets of some of these NAMEs, that ascend."""
+    return [some for many in range(len(names) + 1) for some in itertools.combinations(names, many)]
+
+
+def books_of(names, owners):
+    """All BOOKs of just these bills and payers."""
+    for rows in itertools.product(rows_of(names), repeat=len(owners)):
+        yield tuple(names), tuple(zip(owners, rows))
+
+
+def dues_of(names, numbers):
+    """All DUES of these bills with these numbers alone."""
+    for due in itertools.product(numbers, repeat=len(names)):
+        yield tuple(zip(names, due))
+
+
+def rests_alike(one, other):
+    """Whether two LISTS agree, as the document says it, bill by bill."""
+    for bill in set(one) & set(other):
+        first = [name for name in one if one.index(name) > one.index(bill)]
+        second = [name for name in other if other.index(name) > other.index(bill)]
+        sooner, later = set(one[:one.index(bill)]), set(other[:other.index(bill)])
+        if [name for name in first if name not in later] != [name for name in second if name not in sooner]:
+            return False
+    return True
+
+
+def all_alike(rows):
+    """Whether each two of these LISTS agree."""
+    return all(rests_alike(one, other) for one, other in itertools.combinations(rows, 2))

@@ -23,6 +23,29 @@ INTERFACE = {
         "paid_by": ["book", "dues", "payments", "order"], "given_back": ["book", "dues", "payments", "order"],
         "sum_back": ["book", "dues", "payments", "order"],
     },
+    "agree": {
+        "rest_beside": ["one", "other", "bill"], "agree": ["one", "other"], "odd_bills": ["one", "other"],
+        "agreeing": ["book", "payer"], "odd_pairs": ["book"], "is_good": ["book"], "parting": ["book"],
+        "parting_of": ["book", "one", "other"], "is_parting": ["book", "thing"],
+    },
+    "joining": {
+        "may_join": ["book", "row"], "joining": ["book"], "how_many_join": ["book"], "joining_from": ["book", "row"],
+        "having": ["book", "payer"], "longest_beginning": ["book", "payer"], "most_kept": ["book"],
+        "whole_kept": ["book"], "fewest_struck": ["book"],
+    },
+    "kinds": {
+        "is_heads": ["thing"], "way_from": ["heads", "bill"], "heads_of": ["book"],
+        "book_by_heads": ["heads", "firsts"], "circle_of": ["book"], "book_round": ["circle", "firsts"],
+        "row_of": ["book"], "kinds_of": ["book"], "with_rest": ["book", "rest"], "is_table": ["bills", "thing"],
+        "how_many_tables": ["number"], "how_many_good_tables": ["bills"], "nth_good_table": ["bills", "number"],
+        "number_of_good_table": ["table"], "book_of_table": ["table"],
+    },
+    "sums": {
+        "open_by": ["book", "dues", "sums"], "back_by": ["book", "dues", "sums"],
+        "next_paid": ["book", "dues", "sums", "payer"], "next_due": ["book", "dues", "sums", "bill"],
+        "least_to_pay": ["book", "dues", "sums", "payer", "bill"], "open_spans": ["book", "dues", "lows", "highs"],
+        "back_span": ["book", "dues", "lows", "highs"],
+    },
 }
 BARRED_WORDS = {"type", "typing", "enum", "dataclass", "namedtuple", "register", "open", "input", "law", "elements"}
 

@@ -3,7 +3,7 @@
 import itertools
 import unittest
 
-from helping import check_call, check_raises, check_same
+from helping import check_call, check_raises, check_same, coins
 from ownlists.errors import NoPayer
 from ownlists.laid import along, end_of, ends, first_open, given_back, laid, paid, paid_by, sum_back
 
@@ -14,24 +14,6 @@ CLOSED = (("food", 0), ("gas", 0), ("rent", 0))
 # a is a bill and a payer, z is a bill in no LIST; names of one letter and of eight.
 BOTH = (("a", "abcdefgh", "z"), (("a", ("abcdefgh", "a")), ("zzzzzzzz", ("a",))))
 GREAT = 10 ** 40
-
-
-def coins(book, dues, payments, order):
-    """Coin by coin: what is due behind all, the OPENS on the way, who paid what, what goes back."""
-    rows, due = dict(book[1]), dict(dues)
-    moments, paid_sums, back = [], {}, [0] * len(payments)
-    for place in order:
-        payer, amount = payments[place]
-        for coin in range(amount):
-            still = [bill for bill in rows[payer] if due[bill] > 0]
-            if still:
-                due[still[0]] -= 1
-                paid_sums[payer, still[0]] = paid_sums.get((payer, still[0]), 0) + 1
-            else:
-                back[place] += 1
-        moments.append(tuple(sorted(due.items())))
-    triples = tuple(sorted((*key, number) for key, number in paid_sums.items()))
-    return tuple(sorted(due.items())), moments, triples, tuple(back)
 
 
 class OnePayment(unittest.TestCase):

@@ -2,8 +2,9 @@
 
 import unittest
 
-from helping import check_same
+from helping import check_raises, check_same, rows_of, sets_of
 from ownlists import plain
+from ownlists.errors import NoBill, NoPayer, Twice
 
 
 class Plain(unittest.TestCase):
@@ -57,6 +58,22 @@ class Plain(unittest.TestCase):
         self.assertIsNone(plain.first_not_in((), ()))
         self.assertEqual(plain.least_double(("c", "b", "c", "a", "b")), "b")
         self.assertIsNone(plain.least_double(("c", "a", "b")))
+
+    def test_wanted_names(self):
+        for want, error in ((plain.want_bills, NoBill), (plain.want_payers, NoPayer)):
+            self.assertIsNone(want(("b", "a"), ("a", "b", "c")))
+            self.assertIsNone(want((), ()))
+            check_raises(self, want, error("d"), names=("b", "d", "e", "a"), known=("a", "b", "c"))
+        self.assertIsNone(plain.want_new(("d", "e"), ("a", "b")))
+        self.assertIsNone(plain.want_new((), ("a",)))
+        check_raises(self, plain.want_new, Twice("b"), names=("d", "b", "a"), known=("a", "b"))
+        self.assertIsNone(plain.want_unlike(("b", "a")))
+        check_raises(self, plain.want_unlike, Twice("b"), names=("c", "b", "c", "b", "a"))
+
+    def test_all_sets_and_lists(self):
+        for names in ((), ("a",), ("a", "b"), ("b", "c", "zz"), ("a", "ab", "b", "c", "d")):
+            check_same(self, plain.all_sets(names), sorted(sets_of(names)))
+            check_same(self, plain.all_lists(names), sorted(rows_of(names)))
 
 
 if __name__ == "__main__":

@@ -1,16 +1,21 @@
-"""is_book, is_dues, is_payments, is_order: True for exactly the values described."""
+"""is_book, is_dues, is_payments, is_order, is_parting, is_heads, is_table: True for exactly the values described."""
 
 import itertools
 import unittest
 
 from helping import check_call
 from ownlists import errors
+from ownlists.agree import is_parting
 from ownlists.books import is_book
+from ownlists.kinds import is_heads, is_table
 from ownlists.laid import is_dues, is_order, is_payments
 
 BOOK = (("food", "gas", "rent"), (("ann", ("rent", "gas")), ("bob", ("gas", "food", "rent")), ("cid", ())))
 DUES = (("food", 2), ("gas", 0), ("rent", 10 ** 40))
 PAYMENTS = (("ann", 5), ("bob", 0), ("ann", 5), ("cid", 10 ** 40))
+PARTING = ((("food", 2), ("gas", 3), ("rent", 10 ** 40)), (("ann", 10 ** 40 + 1), ("bob", 3)))
+HEADS = (("food", ""), ("gas", "tax"), ("rent", "gas"), ("tax", "food"))
+TABLE = (("food", "rent", "gas"), ("gas", "food", "rent"), ("rent", "food", "gas"))
 GREAT = 10 ** 60
 
 
@@ -21,7 +26,7 @@ def deep(inner, depth, kind=tuple):
     return inner
 
 
-# None of these is a BOOK, DUES or PAYMENTS; () and (0,) and the like are asked separately.
+# None of these is a BOOK, DUES, PAYMENTS, HEADS, a TABLE or parting; () and (0,) and the like are asked separately.
 OTHERS = (
     0, 1, -1, GREAT, True, False, None, "", "a", "ab", "food", "A", errors.NoBill("a"), errors.BadText(), [], [()],
     [[], []], [(), ()], ([], []), ([], ()), ((), []), ((), (), ()), ((),), (None, None), (True, False), ("a", "b"),
@@ -72,12 +77,27 @@ class Things(unittest.TestCase):
             self.check_false(is_payments, ((), ()), thing)
             self.check_false(is_order, PAYMENTS, thing)
             self.check_false(is_order, (), thing)
+            self.check_false(is_parting, BOOK, thing)
+            self.check_false(is_parting, ((), ()), thing)
+            self.check_false(is_heads, thing)
+            self.check_false(is_table, BOOK[0], thing)
+            self.check_false(is_table, ("a",), thing)
 
     def test_one_part_changed(self):
         self.check_kinds_changed(is_book, thing=BOOK)
         self.check_kinds_changed(is_dues, BOOK, thing=DUES)
         self.check_kinds_changed(is_payments, BOOK, thing=PAYMENTS)
         self.check_kinds_changed(is_order, PAYMENTS, thing=(2, 0, 3, 1))
+        self.check_kinds_changed(is_parting, BOOK, thing=PARTING)
+        self.check_kinds_changed(is_table, BOOK[0], thing=TABLE)
+        self.check_kinds_changed(is_table, ("a",), thing=(("a",),))
+
+    def test_one_part_of_heads_changed(self):
+        self.assertIs(is_heads(HEADS), True)
+        # With "" for a head they are HEADS, too.
+        without_one = [HEADS[:at] + ((bill, ""),) + HEADS[at + 1:] for at, (bill, head) in enumerate(HEADS)]
+        for changed in with_one_changed(HEADS, kinds_changed):
+            self.assertIs(is_heads(changed), changed in without_one, changed)
 
 
 class IsBook(unittest.TestCase):
