@@ -42,6 +42,11 @@ def laid(book, dues, payer, amount):
     return _lessened(dues, shares), amount - _sum_of(shares)
 
 
+def left_by(row, dues, amount):
+    """What is due then at each bill, by this LIST, whosever it is."""
+    return _lessened(dues, _shares(row, dues, amount))
+
+
 def along(book, dues, payments, order):
     """The list of the OPENS behind the first PAYMENT of the ORDER, the second one, and so on."""
     return [opens for place, shares, opens in _steps(book, dues, payments, order)]

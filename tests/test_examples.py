@@ -3,7 +3,7 @@
 import unittest
 
 from helping import check_examples
-from ownlists import agree, books, joining, kinds, laid, sums
+from ownlists import agree, books, could, counts, joining, kinds, laid, orders, sums, told
 
 BOOKS = r"""
     >>> book = (("food", "gas", "rent"), (("ann", ("rent", "gas")), ("bob", ("gas", "food", "rent")), ("cid", ())))
@@ -112,6 +112,81 @@ SUMS = r"""
     raises NoPayer(name='cy')
 """
 
+COUNTS = r"""
+    >>> way = (("a", "b", "c"), (("p", ("a", "b", "c")), ("q", ("b", "c")), ("r", ("c",))))
+    >>> ring = (("a", "b", "c"), (("p", ("a", "b", "c")), ("q", ("b", "c", "a")), ("r", ("c", "a", "b"))))
+    >>> ones, none = (("a", 1), ("b", 1), ("c", 1)), (("a", 0), ("b", 0), ("c", 0))
+    >>> after_ones(way, ones, ("q", "q")), after_ones(way, ones, ("r", "r")), after_ones(ring, ones, ("r", "r"))
+    ((('a', 1), ('b', 0), ('c', 0)), (('a', 1), ('b', 1), ('c', 0)), (('a', 0), ('b', 1), ('c', 0)))
+    >>> opens_after(way, ones, 2)
+    (((('a', 0), ('b', 0), ('c', 1)), 3), ((('a', 0), ('b', 1), ('c', 0)), 2), ((('a', 1), ('b', 0), ('c', 0)), 3), ((('a', 1), ('b', 1), ('c', 0)), 1))
+    >>> how_many_pay_all(way, ones, 3), how_many_pay_all(ring, ones, 3), how_many_without_back(way, ones, 2), how_many_rows(way, ones, 2, (("a", 0), ("b", 1), ("c", 0))), how_many_pay_all(way, ones, 2)
+    (16, 27, 8, 2, 0)
+    >>> nth_row(way, ones, 3, none, 0), nth_row(way, ones, 3, none, 12), number_of_row(way, ones, ("r", "q", "p")), how_many_pay_all(ring, ones, 60) == 3 ** 60, opens_after(way, ones, 0)
+    (('p', 'p', 'p'), ('q', 'r', 'p'), 15, True, (((('a', 1), ('b', 1), ('c', 1)), 1),))
+    >>> nth_row(way, ones, 3, none, 16)
+    raises NoNumber(number=16)
+    >>> after_ones(way, ones, ("p", "s"))
+    raises NoPayer(name='s')
+"""
+
+COULD = r"""
+    >>> home = (("a", "b", "c", "d"), (("ann", ("a", "b")), ("bob", ("c", "b", "d"))))
+    >>> due, late = (("a", 2), ("b", 3), ("c", 0), ("d", 1)), (("a", 2), ("b", 3), ("c", 1), ("d", 1))
+    >>> payable(home, due), rounds(home, due), rounds(home, late), whole_sets(home, due), how_many_opens(home, due)
+    (('a', 'b', 'd'), (('a', 'b'), ('d',)), (('a', 'c'), ('b',), ('d',)), [(), ('a',), ('a', 'b'), ('a', 'b', 'd'), ('b',), ('b', 'd')], 15)
+    >>> [can_stand(home, due, (("a", one), ("b", two), ("c", 0), ("d", last))) for one, two, last in ((1, 3, 1), (2, 2, 0), (2, 0, 1), (0, 0, 0), (1, 2, 1), (3, 3, 1))]
+    [True, False, True, True, True, False]
+    >>> [least_payers(home, due, (("a", one), ("b", two), ("c", 0), ("d", last))) for one, two, last in ((2, 0, 1), (0, 0, 1), (1, 2, 1), (2, 3, 1), (2, 2, 0))]
+    [('bob',), ('ann',), ('ann', 'bob'), (), None]
+    >>> least_ahead(home, due, "b"), least_ahead(home, late, "b"), least_ahead(home, late, "d"), least_ahead(home, due, "c"), always_ahead(home, late, "b"), always_ahead(home, late, "d"), always_ahead(home, due, "c")
+    ([()], [('a',), ('c',)], [('b', 'c')], [], (), ('b', 'c'), None)
+    >>> is_payments_for(home, due, (("a", 1), ("b", 3), ("c", 0), ("d", 1)), (("ann", 1),)), is_payments_for(home, due, (("a", 1), ("b", 3), ("c", 0), ("d", 1)), (("bob", 1),)), payments_for(home, due, (("a", 2), ("b", 2), ("c", 0), ("d", 0)))
+    (True, False, None)
+    >>> can_be_whole(home, late, ("b", "d")), can_be_whole(home, late, ("b", "c", "d")), can_be_whole(home, due, ("c",)), how_many_opens(home, (("a", 10 ** 40), ("b", 1), ("c", 0), ("d", 0)))
+    (False, True, False, 20000000000000000000000000000000000000002)
+    >>> can_be_whole(home, due, ("b", "q"))
+    raises NoBill(name='q')
+"""
+
+ORDERS = r"""
+    >>> book = (("gas", "rent", "tax"), (("ann", ("rent", "gas")), ("bob", ("rent",)), ("cid", ("tax", "gas"))))
+    >>> dues, payments = (("gas", 1), ("rent", 1), ("tax", 1)), (("ann", 1), ("bob", 1))
+    >>> orders_by_ends(book, dues, payments)
+    (((('gas', 0), ('rent', 0), ('tax', 1)), 1), ((('gas', 1), ('rent', 0), ('tax', 1)), 1))
+    >>> how_many_orders_to(book, dues, payments, dues), least_order_to(book, dues, payments, dues), least_order_to(book, dues, payments, (("gas", 0), ("rent", 0), ("tax", 1))), has_one_end(book, dues, payments), has_one_end(book, dues, payments[:1] * 2)
+    (0, None, (1, 0), False, True)
+    >>> is_parting_orders(book, dues, payments, ((0, 1), (1, 0))), is_parting_orders(book, dues, payments, parting_orders(book, dues, payments)), parting_orders(book, dues, payments[1:]), is_parting_orders(book, dues, payments, ((0, 1), (0, 1)))
+    (True, True, None, False)
+    >>> sure_open(book, dues, payments), open_range(book, dues, payments, "gas"), surely_whole(book, dues, payments), maybe_whole(book, dues, payments), back_range(book, dues, payments), paid_range(book, dues, payments, 0, "gas"), paid_range(book, dues, payments, 1, "rent"), paid_range(book, dues, payments, 1, "tax")
+    ((('rent', 0), ('tax', 1)), (0, 1), ('rent',), ('gas', 'rent'), (0, 1), (0, 1), (0, 1), (0, 0))
+    >>> ends_with(book, dues, payments, ((1, 0),)), ends_with(book, dues, payments, ((0, 1), (1, 0))), len(ends_with(book, dues, payments, ()))
+    ([(('gas', 0), ('rent', 0), ('tax', 1))], [], 2)
+    >>> more = payments + (("cid", 2), ("ann", 3))
+    >>> has_one_end(book, dues, more), back_range(book, dues, more), orders_by_ends(book, dues, more)
+    (True, (4, 4), (((('gas', 0), ('rent', 0), ('tax', 0)), 24),))
+    >>> paid_range(book, dues, payments, 2, "gas")
+    raises NoNumber(number=2)
+    >>> open_range(book, dues, payments, "water")
+    raises NoBill(name='water')
+"""
+
+TOLD = r"""
+    >>> names, twos = ("gas", "rent", "tax"), (("gas", 2), ("rent", 2), ("tax", 2))
+    >>> readings = ((twos, 3, (("gas", 1), ("rent", 0), ("tax", 2))),)
+    >>> fits(("rent", "gas"), readings), fits(("gas", "rent"), readings), lists_fitting(names, readings), how_many_fitting(names, ()), first_unfit(names, readings)
+    (True, False, [('rent', 'gas'), ('rent', 'gas', 'tax')], 16, None)
+    >>> surely_ahead(names, readings), surely_in(names, readings), surely_out(names, readings), surely_out(names, ((twos, 7, (("gas", 2), ("rent", 0), ("tax", 2))),))
+    ((('rent', 'gas'),), ('gas', 'rent'), (), ('gas', 'tax'))
+    >>> sure_left(names, readings, twos, 4), sure_left(names, readings, twos, 5), is_open_ask(names, readings, (twos, 5)), is_open_ask(names, readings, (twos, 4)), is_open_ask(names, readings, open_ask(names, readings))
+    ((('gas', 0), ('rent', 0), ('tax', 2)), None, True, False, True)
+    >>> clash = readings + ((twos, 1, (("gas", 1), ("rent", 2), ("tax", 2))),)
+    >>> lists_fitting(names, clash), first_unfit(names, clash), surely_in(names, clash), sure_left(names, clash, twos, 4), open_ask(names, clash), open_ask(("gas",), (((("gas", 2),), 1, (("gas", 1),)),))
+    ([], 1, None, None, None, None)
+    >>> told_back(names, lambda dues, amount: laid((names, (("ann", ("rent", "gas")),)), dues, "ann", amount)[0]), is_readings(names, readings), is_readings(names, ((twos, 3, twos[1:]),)), is_readings(("gas",), readings)
+    (('rent', 'gas'), True, False, False)
+"""
+
 
 def public(*modules):
     """The names that an example may use of these modules."""
@@ -142,6 +217,18 @@ class Examples(unittest.TestCase):
 
     def test_sums_in_good_books(self):
         check_examples(self, assigned(KINDS, "tree") + SUMS, public(sums))
+
+    def test_payments_of_one_counted(self):
+        check_examples(self, COUNTS, public(counts))
+
+    def test_what_can_stand_open(self):
+        check_examples(self, COULD, public(could))
+
+    def test_what_hangs_on_the_order(self):
+        check_examples(self, ORDERS, public(orders))
+
+    def test_lists_told_back(self):
+        check_examples(self, TOLD, public(laid, told))
 
 
 if __name__ == "__main__":

@@ -46,6 +46,35 @@ INTERFACE = {
         "least_to_pay": ["book", "dues", "sums", "payer", "bill"], "open_spans": ["book", "dues", "lows", "highs"],
         "back_span": ["book", "dues", "lows", "highs"],
     },
+    "counts": {
+        "after_ones": ["book", "dues", "row"], "opens_after": ["book", "dues", "many"],
+        "how_many_rows": ["book", "dues", "many", "left"], "how_many_pay_all": ["book", "dues", "many"],
+        "how_many_without_back": ["book", "dues", "many"], "nth_row": ["book", "dues", "many", "left", "number"],
+        "number_of_row": ["book", "dues", "row"],
+    },
+    "could": {
+        "payments_for": ["book", "dues", "left"], "can_stand": ["book", "dues", "thing"],
+        "is_payments_for": ["book", "dues", "left", "thing"], "payable": ["book", "dues"], "rounds": ["book", "dues"],
+        "can_be_whole": ["book", "dues", "some"], "whole_sets": ["book", "dues"], "how_many_whole": ["book", "dues"],
+        "how_many_opens": ["book", "dues"], "least_payers": ["book", "dues", "left"],
+        "least_ahead": ["book", "dues", "bill"], "always_ahead": ["book", "dues", "bill"],
+    },
+    "orders": {
+        "orders_by_ends": ["book", "dues", "payments"], "how_many_orders_to": ["book", "dues", "payments", "left"],
+        "least_order_to": ["book", "dues", "payments", "left"], "has_one_end": ["book", "dues", "payments"],
+        "parting_orders": ["book", "dues", "payments"], "is_parting_orders": ["book", "dues", "payments", "thing"],
+        "sure_open": ["book", "dues", "payments"], "open_range": ["book", "dues", "payments", "bill"],
+        "surely_whole": ["book", "dues", "payments"], "maybe_whole": ["book", "dues", "payments"],
+        "back_range": ["book", "dues", "payments"], "paid_range": ["book", "dues", "payments", "place", "bill"],
+        "ends_with": ["book", "dues", "payments", "pairs"],
+    },
+    "told": {
+        "is_readings": ["names", "thing"], "fits": ["row", "readings"], "lists_fitting": ["names", "readings"],
+        "how_many_fitting": ["names", "readings"], "first_unfit": ["names", "readings"],
+        "surely_ahead": ["names", "readings"], "surely_in": ["names", "readings"], "surely_out": ["names", "readings"],
+        "sure_left": ["names", "readings", "dues", "amount"], "open_ask": ["names", "readings"],
+        "is_open_ask": ["names", "readings", "thing"], "told_back": ["names", "asker"],
+    },
 }
 BARRED_WORDS = {"type", "typing", "enum", "dataclass", "namedtuple", "register", "open", "input", "law", "elements"}
 

@@ -5,7 +5,7 @@ import unittest
 
 from helping import check_call, check_raises, check_same, coins
 from ownlists.errors import NoPayer
-from ownlists.laid import along, end_of, ends, first_open, given_back, laid, paid, paid_by, sum_back
+from ownlists.laid import along, end_of, ends, first_open, given_back, laid, left_by, paid, paid_by, sum_back
 
 NONE = ((), ())
 BOOK = (("food", "gas", "rent"), (("ann", ("rent", "gas")), ("bob", ("gas", "food", "rent")), ("cid", ())))
@@ -41,6 +41,11 @@ class OnePayment(unittest.TestCase):
             behind = tuple(zip(BOOK[0], opens))
             check_call(self, paid, shares, book=BOOK, dues=DUES, payer=payer, amount=amount)
             check_call(self, laid, (behind, back), book=BOOK, dues=DUES, payer=payer, amount=amount)
+
+    def test_left_by(self):
+        for row, amount, opens in (((), 5, (2, 3, 4)), (("rent", "gas"), 0, (2, 3, 4)), (("rent", "gas"), 5, (2, 2, 0)),
+                                   (("gas", "food", "rent"), 6, (0, 0, 3)), (("food",), GREAT, (0, 3, 4))):
+            check_call(self, left_by, tuple(zip(BOOK[0], opens)), row=row, dues=DUES, amount=amount)
 
     def test_closed_bills_are_passed_over(self):
         dues = (("food", 0), ("gas", 3), ("rent", 4))

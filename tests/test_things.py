@@ -1,4 +1,4 @@
-"""is_book, is_dues, is_payments, is_order, is_parting, is_heads, is_table: True for exactly the values described."""
+"""The functions with a parameter called thing: True for exactly the values described."""
 
 import itertools
 import unittest
@@ -7,8 +7,11 @@ from helping import check_call
 from ownlists import errors
 from ownlists.agree import is_parting
 from ownlists.books import is_book
+from ownlists.could import can_stand, is_payments_for
 from ownlists.kinds import is_heads, is_table
 from ownlists.laid import is_dues, is_order, is_payments
+from ownlists.orders import is_parting_orders
+from ownlists.told import is_open_ask, is_readings
 
 BOOK = (("food", "gas", "rent"), (("ann", ("rent", "gas")), ("bob", ("gas", "food", "rent")), ("cid", ())))
 DUES = (("food", 2), ("gas", 0), ("rent", 10 ** 40))
@@ -17,6 +20,12 @@ PARTING = ((("food", 2), ("gas", 3), ("rent", 10 ** 40)), (("ann", 10 ** 40 + 1)
 HEADS = (("food", ""), ("gas", "tax"), ("rent", "gas"), ("tax", "food"))
 TABLE = (("food", "rent", "gas"), ("gas", "food", "rent"), ("rent", "food", "gas"))
 GREAT = 10 ** 60
+LEFT = (("food", 1), ("gas", 0), ("rent", 10 ** 40 - 1))
+PAID = (("ann", 0), ("ann", 1), ("bob", 1), ("cid", 10 ** 40))
+ORDERS = ((2, 0, 3, 1), (1, 3, 2, 0))
+NAMES, TWOS = ("gas", "rent", "tax"), (("gas", 2), ("rent", 2), ("tax", 2))
+READINGS = ((TWOS, 3, (("gas", 1), ("rent", 0), ("tax", 2))), (TWOS, 10 ** 40, TWOS))
+ASK = ((("gas", 1), ("rent", 10 ** 40), ("tax", 0)), 1)
 
 
 def deep(inner, depth, kind=tuple):
@@ -82,6 +91,16 @@ class Things(unittest.TestCase):
             self.check_false(is_heads, thing)
             self.check_false(is_table, BOOK[0], thing)
             self.check_false(is_table, ("a",), thing)
+            self.check_false(can_stand, BOOK, DUES, thing)
+            self.check_false(can_stand, ((), ()), (), thing)
+            self.check_false(is_payments_for, BOOK, DUES, LEFT, thing)
+            self.check_false(is_payments_for, ((), ()), (), (), thing)
+            self.check_false(is_parting_orders, BOOK, DUES, PAYMENTS, thing)
+            self.check_false(is_parting_orders, ((), ()), (), (), thing)
+            self.check_false(is_readings, NAMES, thing)
+            self.check_false(is_readings, ("a",), thing)
+            self.check_false(is_open_ask, NAMES, (), thing)
+            self.check_false(is_open_ask, ("a",), (), thing)
 
     def test_one_part_changed(self):
         self.check_kinds_changed(is_book, thing=BOOK)
@@ -91,6 +110,11 @@ class Things(unittest.TestCase):
         self.check_kinds_changed(is_parting, BOOK, thing=PARTING)
         self.check_kinds_changed(is_table, BOOK[0], thing=TABLE)
         self.check_kinds_changed(is_table, ("a",), thing=(("a",),))
+        self.check_kinds_changed(can_stand, BOOK, DUES, thing=LEFT)
+        self.check_kinds_changed(is_payments_for, BOOK, DUES, LEFT, thing=PAID)
+        self.check_kinds_changed(is_parting_orders, BOOK, PARTING[0], PARTING[1] + PAYMENTS[1:3], thing=ORDERS)
+        self.check_kinds_changed(is_readings, NAMES, thing=READINGS)
+        self.check_kinds_changed(is_open_ask, NAMES, (), thing=ASK)
 
     def test_one_part_of_heads_changed(self):
         self.assertIs(is_heads(HEADS), True)
