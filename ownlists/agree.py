@@ -2,7 +2,7 @@
 
 from ownlists.books import bills, list_of
 from ownlists.laid import ends, is_dues, is_payments
-from ownlists.plain import is_pair
+from ownlists.plain import first_unlike, is_pair
 
 
 def rest_beside(one, other, bill):
@@ -60,7 +60,9 @@ def parting_of(book, one, other):
         return None
     # Whoever comes first pays the odd bill; what is left to the other one is another bill either way, or none.
     bill = odd[0]
-    due = (bill,) + _first_unlike(rest_beside(row, beside, bill), rest_beside(beside, row, bill))
+    rest, other_rest = rest_beside(row, beside, bill), rest_beside(beside, row, bill)
+    place = first_unlike(rest, other_rest)
+    due = (bill,) + rest[place:place + 1] + other_rest[place:place + 1]
     dues = tuple([(name, 1 if name in due else 0) for name in bills(book)])
     return dues, ((one, 1), (other, 1))
 
@@ -73,11 +75,3 @@ def is_parting(book, thing):
     if not is_dues(book, dues) or not is_pair(payments) or not is_payments(book, payments):
         return False
     return len(ends(book, dues, payments)) == 2
-
-
-def _first_unlike(one, other):
-    """The one or two NAMEs at the first place at which these two unlike rows differ."""
-    place = 0
-    while one[place:place + 1] == other[place:place + 1]:
-        place = place + 1
-    return one[place:place + 1] + other[place:place + 1]

@@ -70,6 +70,22 @@ def first_not_in(names, known):
     return None
 
 
+def first_double(names):
+    """The first of the NAMEs that stands there ahead already; None if there is none."""
+    for place, name in enumerate(names):
+        if name in names[:place]:
+            return name
+    return None
+
+
+def first_unlike(one, other):
+    """The first place at which these two unlike tuples differ, or at which one of them ends."""
+    place = 0
+    while one[place:place + 1] == other[place:place + 1]:
+        place = place + 1
+    return place
+
+
 def least_double(names):
     """The least of the NAMEs that stands there more than once; None if there is none."""
     ascending = sorted(names)
@@ -98,6 +114,13 @@ def want_new(names, known):
     for name in names:
         if name in known:
             raise Twice(name)
+
+
+def want_once(names):
+    """Raise Twice for the first of the NAMEs that stands there ahead already."""
+    name = first_double(names)
+    if name is not None:
+        raise Twice(name)
 
 
 def want_unlike(names):

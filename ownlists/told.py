@@ -1,7 +1,7 @@
 """Lists told back: what is known of a payer's list by what money laid by it leaves open, and what tells it."""
 
 from ownlists.laid import is_dues, left_by
-from ownlists.plain import all_lists, frozen, is_amount, is_pair
+from ownlists.plain import all_lists, first_unlike, frozen, is_amount, is_pair
 
 
 def is_readings(names, thing):
@@ -71,7 +71,7 @@ def open_ask(names, readings):
     if len(rows) < 2:
         return None
     # With 1 due at each bill so much comes just to where two LISTs part: there one of them has another bill, or none.
-    return tuple([(name, 1) for name in names]), _place_of_parting(rows[0], rows[1]) + 1
+    return tuple([(name, 1) for name in names]), first_unlike(rows[0], rows[1]) + 1
 
 
 def is_open_ask(names, readings, thing):
@@ -117,11 +117,3 @@ def _has_ahead(row, one, other):
 def _lefts(names, readings, dues, amount):
     """The ascending list of what can be open behind this PAYMENT by a LIST that fits, each once."""
     return sorted(set([left_by(row, dues, amount) for row in lists_fitting(names, readings)]))
-
-
-def _place_of_parting(one, other):
-    """How many bills these two unlike LISTs begin with alike."""
-    place = 0
-    while one[place:place + 1] == other[place:place + 1]:
-        place = place + 1
-    return place

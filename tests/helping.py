@@ -50,9 +50,9 @@ def check_same(case, got, expected):
     case.assertEqual(repr(got), repr(expected))
 
 
-def check_call(case, function, expected, **arguments):
+def check_call(case, function, expected, *, lists_inside=False, **arguments):
     """The call returns just this: with lists for tuples, by position and by name, again and again."""
-    case.assertFalse(has_list(expected))
+    case.assertEqual(has_list(expected), lists_inside)
     for form in FORMS:
         handed = formed(arguments, form)
         before = copy.deepcopy(handed)

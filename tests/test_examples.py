@@ -3,7 +3,7 @@
 import unittest
 
 from helping import check_examples
-from ownlists import agree, books, could, counts, joining, kinds, laid, orders, sums, told
+from ownlists import agree, board, books, changed, could, counts, desk, joining, kinds, laid, orders, sums, texts, told
 
 BOOKS = r"""
     >>> book = (("food", "gas", "rent"), (("ann", ("rent", "gas")), ("bob", ("gas", "food", "rent")), ("cid", ())))
@@ -187,6 +187,61 @@ TOLD = r"""
     (('rent', 'gas'), True, False, False)
 """
 
+CHANGED = r"""
+    >>> book = (("food", "gas", "rent"), (("ann", ("rent", "gas")), ("bob", ("gas", "rent")), ("cid", ("rent", "food"))))
+    >>> good_exchanges(book, "ann"), good_outs(book, "cid"), good_puts(book, "ann", "food"), good_outs(book, "ann"), nearest_lists(book, "cid"), nearest_lists(book, "ann")
+    ((), ('rent',), (), (), (1, [('food',)]), None)
+    >>> tidy = (("food", "gas", "rent"), (("ann", ("rent", "gas")), ("bob", ("gas", "rent")), ("cid", ("rent",))))
+    >>> good_puts(tidy, "cid", "gas"), good_exchanges(tidy, "ann"), nearest_lists(tidy, "cid"), good_puts(tidy, "cid", "rent")
+    ((0, 1), (0,), (1, [(), ('gas', 'rent'), ('rent', 'gas')]), ())
+    >>> fewest_steps(("a", "b", "c"), ("c", "a", "b")), fewest_steps((), ("a", "b")), fewest_steps(("a", "b"), ("b", "a")), unlike_payers(book, tidy), is_parting_payment(book, tidy, parting_payment(book, tidy))
+    (2, 2, 2, ('cid',), True)
+    >>> is_parting_payment(book, tidy, ((("food", 1), ("gas", 0), ("rent", 0)), "cid", 1)), is_parting_payment(book, tidy, ((("food", 0), ("gas", 1), ("rent", 1)), "cid", 5)), parting_payment(tidy, tidy)
+    (True, False, None)
+    >>> unlike_payers(book, (("food", "gas", "rent"), ()))
+    raises OtherBook()
+"""
+
+BOARD = r"""
+    >>> board = Board(("rent", "gas", "food"))
+    >>> board["ann"], board["bob"], board["cid"] = ("rent", "gas"), ("rent",), ("gas", "food")
+    >>> board.good(), board.odd(), board.above("bob"), board.above("ann"), board.effect("cid", ("gas",)), board.effect("cid", ("food", "gas")), board.effect("bob", ("rent", "food"))
+    (False, ('ann', 'bob', 'cid'), ('ann',), (), 'less', 'either', 'more')
+    >>> board.due("rent", 5), board.due("gas", 10 ** 40), board.shares("ann", 8), board.pay("ann", 8), board.owed == (("food", 0), ("gas", 10 ** 40 - 3), ("rent", 0)), board.pay("bob", 2), board.back
+    (None, None, (('rent', 5), ('gas', 3)), None, True, None, 2)
+    >>> board += ("bob", "gas")
+    >>> board["bob"], board.doubled(), board.odd(), board.undo(), board["bob"], board.undo(), board.back
+    (('rent', 'gas'), ('bob',), ('ann', 'bob', 'cid'), True, ('rent',), True, 0)
+    >>> board.frame("bob", (), ("rent", "gas")), board.frames
+    (None, (('bob', (), ('rent', 'gas')),))
+    >>> board.attempt((("due", "food", 1), ("add", "bob", "food")))
+    raises Stopped(number=1, raised='Outside', value='bob')
+    >>> board.effect("ann", ("gas", "tax", "gas"))
+    raises NoBill(name='tax')
+"""
+
+TEXTS = r"""
+    >>> row_text(("rent", "gas")), row_in("-"), row_in("rent gas"), book_text((("a", "b"), (("x", ("b", "a")), ("y", ())))), book_in("a b; x b a; y -") == (("a", "b"), (("x", ("b", "a")), ("y", ()))), book_in("-")
+    ('rent gas', (), ('rent', 'gas'), 'a b; x b a; y -', True, ((), ()))
+    >>> pairs_text((("gas", 3), ("rent", 0))), pairs_in("gas 3; rent 0"), pairs_in("-")
+    ('gas 3; rent 0', (('gas', 3), ('rent', 0)), ())
+    >>> row_in("a a")
+    raises BadText()
+    >>> pairs_in("b 1; a 1")
+    raises BadText()
+    >>> made = board_in("bills gas rent\nopen gas 0; rent 12\nback 3\nann: rent gas\nbob: -\nann from rent .. *\nend")
+    >>> made.bills, made.owed, made.back, made["ann"], made["bob"], made.frames, made.undo(), board_text(Board(()))
+    (('gas', 'rent'), (('gas', 0), ('rent', 12)), 3, ('rent', 'gas'), (), (('ann', ('rent',), None),), False, 'bills -\nopen -\nback 0\nend')
+    >>> board_in("bills gas rent\nopen gas 1\nback 0\nend")
+    raises BadLine(number=1)
+    >>> answers("bills food gas rent\nset ann rent gas\nset bob rent\nset cid gas food\ngood\nodd\nabove bob\ndue rent 5\ndue gas 7\nshares ann 8\npay ann 8\nopen\npay bob 2\nback\nadd bob gas\ndoubled\nundo\nundo\nback\nframe bob from - .. rent gas\nadd bob food\nadd bob tax\nset ann tax\npay zed 1\nlift ann\neffect cid gas\nadd cid food\nleave ann\ngood\nodd")
+    ['done', 'done', 'done', 'done', 'no', 'ann bob cid', 'ann', 'done', 'done', 'rent 5; gas 3', 'done', 'food 0; gas 4; rent 0', 'done', '2', 'done', 'bob', 'yes', 'yes', '0', 'done', 'refused Outside', 'refused NoBill', 'refused NoBill', 'refused NoPayer', 'refused NoFrame', 'less', 'done', 'done', 'yes', '-']
+    >>> answers(""), answers("bills -\nundo\nopen\nset x -\ngood\npay x 4\nback\nshares x 1")
+    ([], ['done', 'no', '-', 'done', 'yes', 'done', '4', '-'])
+    >>> answers("bills b a")
+    raises BadLine(number=0)
+"""
+
 
 def public(*modules):
     """The names that an example may use of these modules."""
@@ -229,6 +284,15 @@ class Examples(unittest.TestCase):
 
     def test_lists_told_back(self):
         check_examples(self, TOLD, public(laid, told))
+
+    def test_lists_changed(self):
+        check_examples(self, CHANGED, public(changed))
+
+    def test_a_board(self):
+        check_examples(self, BOARD, public(board))
+
+    def test_texts_and_a_desk(self):
+        check_examples(self, TEXTS, public(board, texts, desk))
 
 
 if __name__ == "__main__":

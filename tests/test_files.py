@@ -75,7 +75,24 @@ INTERFACE = {
         "sure_left": ["names", "readings", "dues", "amount"], "open_ask": ["names", "readings"],
         "is_open_ask": ["names", "readings", "thing"], "told_back": ["names", "asker"],
     },
+    "changed": {
+        "good_exchanges": ["book", "payer"], "good_puts": ["book", "payer", "bill"], "good_outs": ["book", "payer"],
+        "fewest_steps": ["one", "other"], "nearest_lists": ["book", "payer"], "unlike_payers": ["one", "other"],
+        "parting_payment": ["one", "other"], "is_parting_payment": ["one", "other", "thing"],
+    },
+    "texts": {
+        "row_text": ["row"], "row_in": ["text"], "book_text": ["book"], "book_in": ["text"], "pairs_text": ["pairs"],
+        "pairs_in": ["text"], "board_text": ["board"], "board_in": ["text"],
+    },
+    "desk": {"answers": ["text"]},
 }
+BOARD = {
+    "__init__": ["bills"], "good": [], "odd": [], "shares": ["payer", "amount"], "above": ["payer"], "doubled": [],
+    "effect": ["payer", "row"], "due": ["bill", "amount"], "pay": ["payer", "amount"], "leave": ["payer"],
+    "frame": ["payer", "low", "high"], "lift": ["payer"], "attempt": ["deeds"], "undo": [], "twin": [],
+}
+SIGNS = ("__len__", "__contains__", "__getitem__", "__setitem__", "__eq__", "__iadd__", "__iter__")
+PROPERTIES = ("bills", "owed", "back", "names", "frames")
 BARRED_WORDS = {"type", "typing", "enum", "dataclass", "namedtuple", "register", "open", "input", "law", "elements"}
 
 
@@ -103,6 +120,18 @@ class Interface(unittest.TestCase):
                     function = getattr(module, name)
                     self.assertEqual((function.__module__, function.__name__), (module.__name__, name))
                     self.assertEqual(list(inspect.signature(function).parameters), arguments)
+
+    def test_the_board_has_its_methods_itself(self):
+        kind = importlib.import_module("ownlists.board").Board
+        self.assertEqual((kind.__module__, kind.__name__, kind.__bases__), ("ownlists.board", "Board", (object,)))
+        for name, arguments in BOARD.items():
+            with self.subTest(name=name):
+                self.assertEqual(list(inspect.signature(vars(kind)[name]).parameters), ["self"] + arguments)
+        for name in SIGNS:
+            self.assertTrue(inspect.isfunction(vars(kind)[name]), name)
+        for name in PROPERTIES:
+            self.assertIsInstance(vars(kind)[name], property)
+            self.assertIsNone(vars(kind)[name].fset)
 
 
 class Rules(unittest.TestCase):
@@ -147,7 +176,8 @@ class Rules(unittest.TestCase):
     def test_no_local_name_is_that_of_an_import(self):
         for path, tree in trees():
             imported = {alias.name for node in tree.body if isinstance(node, ast.ImportFrom) for alias in node.names}
-            inside = [node for top in tree.body if isinstance(top, ast.FunctionDef) for node in ast.walk(top)]
+            tops = [top for top in tree.body if isinstance(top, (ast.FunctionDef, ast.ClassDef))]
+            inside = [node for top in tops for node in ast.walk(top)]
             local = {node.id for node in inside if isinstance(node, ast.Name) and isinstance(node.ctx, ast.Store)}
             local |= {node.arg for node in inside if isinstance(node, ast.arg)}
             with self.subTest(path.name):

@@ -56,6 +56,13 @@ class Plain(unittest.TestCase):
         self.assertEqual(plain.first_not_in(("b", "d", "c"), ("a", "b")), "d")
         self.assertIsNone(plain.first_not_in(("b", "a"), ("a", "b")))
         self.assertIsNone(plain.first_not_in((), ()))
+        self.assertEqual(plain.first_double(("c", "b", "a", "a", "b", "c")), "a")
+        self.assertEqual(plain.first_double(("c", "b", "c", "b")), "c")
+        self.assertIsNone(plain.first_double(("c", "a", "b")))
+        self.assertIsNone(plain.first_double(()))
+        for one, other, place in ((("a",), (), 0), (("a",), ("b",), 0), (("a", "b"), ("a",), 1),
+                                  (("a", "b", "c"), ("a", "c", "b"), 1), (("a", "b", "c"), ("a", "b"), 2)):
+            self.assertEqual((plain.first_unlike(one, other), plain.first_unlike(other, one)), (place, place))
         self.assertEqual(plain.least_double(("c", "b", "c", "a", "b")), "b")
         self.assertIsNone(plain.least_double(("c", "a", "b")))
 
@@ -67,6 +74,8 @@ class Plain(unittest.TestCase):
         self.assertIsNone(plain.want_new(("d", "e"), ("a", "b")))
         self.assertIsNone(plain.want_new((), ("a",)))
         check_raises(self, plain.want_new, Twice("b"), names=("d", "b", "a"), known=("a", "b"))
+        self.assertIsNone(plain.want_once(("b", "a")))
+        check_raises(self, plain.want_once, Twice("c"), names=("a", "c", "b", "c", "b", "a"))
         self.assertIsNone(plain.want_unlike(("b", "a")))
         check_raises(self, plain.want_unlike, Twice("b"), names=("c", "b", "c", "b", "a"))
 

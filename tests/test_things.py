@@ -6,7 +6,9 @@ import unittest
 from helping import check_call
 from ownlists import errors
 from ownlists.agree import is_parting
+from ownlists.board import Board
 from ownlists.books import is_book
+from ownlists.changed import is_parting_payment
 from ownlists.could import can_stand, is_payments_for
 from ownlists.kinds import is_heads, is_table
 from ownlists.laid import is_dues, is_order, is_payments
@@ -26,6 +28,10 @@ ORDERS = ((2, 0, 3, 1), (1, 3, 2, 0))
 NAMES, TWOS = ("gas", "rent", "tax"), (("gas", 2), ("rent", 2), ("tax", 2))
 READINGS = ((TWOS, 3, (("gas", 1), ("rent", 0), ("tax", 2))), (TWOS, 10 ** 40, TWOS))
 ASK = ((("gas", 1), ("rent", 10 ** 40), ("tax", 0)), 1)
+# bob has another LIST than in BOOK.
+OTHER = (BOOK[0], (BOOK[1][0], ("bob", ("gas", "rent")), BOOK[1][2]))
+TRIPLE = ((("food", 2), ("gas", 1), ("rent", 10 ** 40)), "bob", 2)
+BOARD = Board(("food", "gas"))
 
 
 def deep(inner, depth, kind=tuple):
@@ -38,7 +44,8 @@ def deep(inner, depth, kind=tuple):
 # None of these is a BOOK, DUES, PAYMENTS, HEADS, a TABLE or parting; () and (0,) and the like are asked separately.
 OTHERS = (
     0, 1, -1, GREAT, True, False, None, "", "a", "ab", "food", "A", errors.NoBill("a"), errors.BadText(), [], [()],
-    [[], []], [(), ()], ([], []), ([], ()), ((), []), ((), (), ()), ((),), (None, None), (True, False), ("a", "b"),
+    [[], []], [(), ()], ([], []), ([], ()), ((), []), BOARD, (BOARD,), (BOARD, BOARD), (BOARD, ()), ((), BOARD),
+    [BOARD], (BOARD, "a", 1), ((), (), ()), ((),), (None, None), (True, False), ("a", "b"),
     ("a", 1), (("a",), None), (("a",), "b"), ("a", ()), ((), "a"), ((1,), ()), ((), (1,)), ((), ("a",)), ((), ((),)),
     (("food", 1),), (("food", 1), ("gas", 1), ("rent", 1), ("tax", 1)), (errors.NoBill("a"), ()), {}, b"ab",
     deep((), 12), deep((), 12, list), deep("a", 11), deep(1, 12),
@@ -57,7 +64,7 @@ def with_one_changed(value, changes):
 
 def kinds_changed(part):
     """Things of other kinds in the place of this part."""
-    found = [None, True, False, "", "A", "a b", "abcdefghi", "a1", -1, [], {}, errors.NoBill("a"), deep((), 3)]
+    found = [None, True, False, "", "A", "a b", "abcdefghi", "a1", -1, [], {}, errors.NoBill("a"), BOARD, deep((), 3)]
     if isinstance(part, tuple):
         found += [list(part), 0, "a", part + (None,), part + ((),)]
     elif isinstance(part, str):
@@ -101,6 +108,8 @@ class Things(unittest.TestCase):
             self.check_false(is_readings, ("a",), thing)
             self.check_false(is_open_ask, NAMES, (), thing)
             self.check_false(is_open_ask, ("a",), (), thing)
+            self.check_false(is_parting_payment, BOOK, OTHER, thing)
+            self.check_false(is_parting_payment, ((), ()), ((), ()), thing)
 
     def test_one_part_changed(self):
         self.check_kinds_changed(is_book, thing=BOOK)
@@ -115,6 +124,7 @@ class Things(unittest.TestCase):
         self.check_kinds_changed(is_parting_orders, BOOK, PARTING[0], PARTING[1] + PAYMENTS[1:3], thing=ORDERS)
         self.check_kinds_changed(is_readings, NAMES, thing=READINGS)
         self.check_kinds_changed(is_open_ask, NAMES, (), thing=ASK)
+        self.check_kinds_changed(is_parting_payment, BOOK, OTHER, thing=TRIPLE)
 
     def test_one_part_of_heads_changed(self):
         self.assertIs(is_heads(HEADS), True)
