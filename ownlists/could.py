@@ -53,8 +53,8 @@ def rounds(book, dues):
 def can_be_whole(book, dues, some):
     """Whether some is a set of bills on which something is due, and can be whole."""
     want_bills(some, bills(book))
-    closed = _closed_bills(dues)
-    return not any([bill in closed for bill in some]) and _row_closing(book, closed, some) is not None
+    # What is closed already is none of the bills that can be closed.
+    return _row_closing(book, _closed_bills(dues), some) is not None
 
 
 def whole_sets(book, dues):

@@ -1,14 +1,13 @@
 """Payments of one, counted: what is due behind rows of payers each of whom pays 1, and by how many rows."""
 
-from ownlists.books import list_of, payers
+from ownlists.books import list_of
 from ownlists.errors import NoNumber
 from ownlists.laid import left_by
-from ownlists.plain import frozen, want_payers
+from ownlists.plain import frozen
 
 
 def after_ones(book, dues, row):
     """The OPENS behind these payers, each of whom pays 1."""
-    want_payers(row, payers(book))
     opens = frozen(dues)
     for payer in row:
         opens = left_by(list_of(book, payer), opens, 1)
@@ -99,8 +98,7 @@ def _counts_to(moves, left, many):
     counts = [{left: 1}]
     for _ in range(many):
         below = counts[-1]
-        sums = {opens: sum([below.get(then, 0) for payer, then in moves[opens]]) for opens in moves}
-        counts.append({opens: sums[opens] for opens in sums if sums[opens] > 0})
+        counts.append({opens: sum([below.get(then, 0) for payer, then in moves[opens]]) for opens in moves})
     return counts
 
 

@@ -37,17 +37,16 @@ def _request_in(line):
     if line in _BARE:
         return (line,)
     word, _, rest = line.partition(" ")
+    told = None
     if word == "frame":
         told = frame_in(rest)
-    else:
-        told = _told_in(rest, _SHAPES.get(word, ()))
+    elif word in _SHAPES:
+        told = _told_in(rest, _SHAPES[word])
     return None if told is None else (word,) + told
 
 
 def _told_in(text, shape):
     """The tuple of what this text tells, of these kinds one behind another; None if it does not."""
-    if shape == ():
-        return None
     texts = text.split(" ", len(shape) - 1)
     told = tuple([_value_in(part, kind) for part, kind in zip(texts, shape)])
     return told if len(texts) == len(shape) and None not in told else None

@@ -84,7 +84,7 @@ def told_back(names, asker):
     dues = tuple([(name, 2) for name in names])
     row = ()
     for turn in range((len(names) + 1) // 2):
-        left = frozen(asker(dues, 4 * turn + 3))
+        left = asker(dues, 4 * turn + 3)
         # So much pays an odd number of bills whole, and half of the next one.
         for number in (0, 1):
             row = row + tuple([name for name, still in left if still == number and name not in row])

@@ -183,6 +183,25 @@ class Rules(unittest.TestCase):
             with self.subTest(path.name):
                 self.assertEqual(imported & local, set())
 
+    def test_what_a_class_with_signs_asks_of_all_files(self):
+        for path, tree in trees():
+            for node in ast.walk(tree):
+                self.assertNotIsInstance(node, (ast.AugAssign, ast.GeneratorExp), path.name)
+                if isinstance(node, ast.ClassDef):
+                    parts = [part for part in node.body if isinstance(part, ast.FunctionDef)]
+                    decorated = [part.name for part in parts for sign in part.decorator_list if sign.id != "property"]
+                    self.assertEqual(decorated, [], path.name)
+
+    def test_a_caught_error_has_a_name_of_its_own(self):
+        for path, tree in trees():
+            for top in ast.walk(tree):
+                if isinstance(top, ast.FunctionDef):
+                    caught = [node.name for node in ast.walk(top) if isinstance(node, ast.ExceptHandler) and node.name]
+                    bound = [node.id for node in ast.walk(top) if isinstance(node, ast.Name)
+                             and isinstance(node.ctx, ast.Store)] + [node.arg for node in top.args.args]
+                    self.assertEqual(len(set(caught)), len(caught), (path.name, top.name))
+                    self.assertEqual(set(caught) & set(bound), set(), (path.name, top.name))
+
     def test_kinds_of_code(self):
         barred = (ast.Global, ast.AsyncFunctionDef, ast.Await, ast.Div)
         for path, tree in trees():
